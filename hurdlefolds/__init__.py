@@ -1,0 +1,1 @@
+"""Folds of hurdles on a field of cells."""
