@@ -17,18 +17,27 @@ def cell_beyond(field, cell, side):
     return None
 
 
-def needs_hurdle(field, cells, cell, side):
+def needs_hurdle(field, inside, cell, side):
     other = cell_beyond(field, cell, side)
     if other is None:
         return field.walls[side] == 0
-    return other not in cells
+    return other not in inside
+
+
+# A dict is asked for a cell at once; a list would be gone through for each side of each cell.
+def marked(cells):
+    inside = {}
+    for cell in cells:
+        inside[cell] = True
+    return inside
 
 
 def hurdles(field, cells):
+    inside = marked(cells)
     found = []
     for cell in cells:
         for side in range(len(SIDE_WORDS)):
-            if needs_hurdle(field, cells, cell, side):
+            if needs_hurdle(field, inside, cell, side):
                 found.append((cell, side))
     return found
 

@@ -1,4 +1,4 @@
-"""Rectangles: what they cost, where they are put, and the greatest of so many hurdles."""
+"""Rectangles: what they cost, where they are put, the greatest, the cheapest and the rounded one."""
 
 from hurdlefolds.ground import ABOVE, BELOW, LEFT, RIGHT
 
@@ -30,15 +30,55 @@ def rectangle_put(field, high, wide):
     return [row, column, high, wide]
 
 
-# The least tuple is the greatest rectangle: most cells, then least cost, then fewest rows.
-def greatest_rectangle(field, most_hurdles):
-    ranked = []
+def every_rectangle(field):
+    found = []
     for high in range(1, field.rows + 1):
         for wide in range(1, field.columns + 1):
-            cost = rectangle_cost(field, high, wide)
-            if cost <= most_hurdles:
-                ranked.append((-high * wide, cost, high, wide))
+            found.append((high, wide, rectangle_cost(field, high, wide)))
+    return found
+
+
+def first_size(ranked):
     if len(ranked) == 0:
         return None
     first = min(ranked)
     return (first[2], first[3])
+
+
+# The least tuple is the greatest rectangle: most cells, then least cost, then fewest rows.
+def greatest_rectangle(field, most_hurdles):
+    ranked = []
+    for high, wide, cost in every_rectangle(field):
+        if cost <= most_hurdles:
+            ranked.append((-high * wide, cost, high, wide))
+    return first_size(ranked)
+
+
+# The least tuple is the cheapest rectangle: least cost, then most cells, then fewest rows.
+def cheapest_rectangle(field, least_cells):
+    ranked = []
+    for high, wide, cost in every_rectangle(field):
+        if high * wide >= least_cells:
+            ranked.append((cost, -high * wide, high, wide))
+    return first_size(ranked)
+
+
+def most_cells(field, most_hurdles):
+    greatest = greatest_rectangle(field, most_hurdles)
+    if greatest is None:
+        return 0
+    return greatest[0] * greatest[1]
+
+
+def rounded_size(field, cells):
+    in_rows = [0] * field.rows
+    in_columns = [0] * field.columns
+    for cell in cells:
+        in_rows[cell // field.columns] += 1
+        in_columns[cell % field.columns] += 1
+    walls = field.walls
+    full_row = walls[RIGHT] + walls[LEFT] == 2 and field.columns in in_rows
+    full_column = walls[ABOVE] + walls[BELOW] == 2 and field.rows in in_columns
+    if full_row or full_column:
+        return (field.rows, field.columns)
+    return (field.rows - in_rows.count(0), field.columns - in_columns.count(0))

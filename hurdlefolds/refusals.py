@@ -26,6 +26,11 @@ class NotThere(Refusal):
         Refusal.__init__(self, -5)
 
 
+class TooManyDays(Refusal):
+    def __init__(self):
+        Refusal.__init__(self, -9)
+
+
 class TextFault(Refusal):
     def __init__(self, place):
         Refusal.__init__(self, -1000 - place)

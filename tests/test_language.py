@@ -101,6 +101,54 @@ class Code(unittest.TestCase):
             if isinstance(node, ast.Call) and isinstance(node.func, ast.Attribute):
                 self.assertIn(node.func.attr, allowed, f"{name}:{node.lineno}")
 
+    def test_no_local_is_called_like_an_import_or_a_class_of_its_file(self):
+        for path, source in sources():
+            tree = ast.parse(source)
+            taken = {node.name for node in tree.body if isinstance(node, ast.ClassDef)}
+            for node in tree.body:
+                if isinstance(node, ast.ImportFrom):
+                    taken |= {one.name for one in node.names}
+            for node in ast.walk(tree):
+                if isinstance(node, ast.arg):
+                    self.assertNotIn(node.arg, taken, path)
+                if isinstance(node, ast.Name) and isinstance(node.ctx, ast.Store):
+                    self.assertNotIn(node.id, taken, path)
+                if isinstance(node, ast.ExceptHandler):
+                    self.assertNotIn(node.name, taken, path)
+
+    def test_no_name_is_a_method_and_a_value(self):
+        methods = {one.name for name, node in nodes() if isinstance(node, ast.ClassDef)
+                   for one in node.body if isinstance(one, ast.FunctionDef)}
+        values = {node.attr for name, node in nodes()
+                  if isinstance(node, ast.Attribute) and isinstance(node.ctx, ast.Store)}
+        self.assertEqual(methods & values, set())
+        owned = {word for kind in (str, int, list, dict, set, bytes) for word in dir(kind)}
+        self.assertEqual((methods | values) & owned - {"__init__"}, set())
+
+    def test_powers_comparisons_and_sets(self):
+        for name, node in nodes():
+            where = f"{name}:{getattr(node, 'lineno', 0)}"
+            self.assertNotIsInstance(node, (ast.Pow, ast.Set), where)
+            if isinstance(node, ast.Compare) and any(isinstance(sign, (ast.Is, ast.IsNot)) for sign in node.ops):
+                self.assertIsInstance(node.comparators[0], ast.Constant, where)
+            if isinstance(node, ast.ListComp):
+                self.assertEqual(len(node.generators), 1, where)
+                self.assertLessEqual(len(node.generators[0].ifs), 1, where)
+
+    def test_a_files_top_binds_plain_values_once(self):
+        for path, source in sources():
+            bound = []
+            for node in ast.parse(source).body:
+                self.assertIsInstance(node, (ast.Expr, ast.ImportFrom, ast.FunctionDef, ast.ClassDef, ast.Assign), path)
+                if isinstance(node, ast.ImportFrom):
+                    bound += [one.name for one in node.names]
+                elif isinstance(node, ast.Assign):
+                    bound.append(node.targets[0].id)
+                    self.assertIsInstance(node.value, (ast.Constant, ast.Tuple, ast.List, ast.Dict), path)
+                elif not isinstance(node, ast.Expr):
+                    bound.append(node.name)
+            self.assertEqual(sorted(set(bound)), sorted(bound), path)
+
     def test_the_interface(self):
         found = [(name, node) for name, node in nodes() if isinstance(node, ast.FunctionDef) and node.name == "answers"]
         self.assertEqual([name for name, node in found], ["fields.py"])

@@ -2,26 +2,9 @@
 
 import unittest
 
-from helper import best, cost, every_walls, field, field_text, last, rect, run
+from helper import best, cells_of, cost, every_walls, field, field_text, fold_cost, last, rect, run
 
 SIZES = ((1, 1), (1, 2), (2, 1), (1, 8), (8, 1), (2, 3), (3, 3), (4, 7), (8, 5), (8, 8))
-
-
-def cells_of(columns, row, column, high, wide):
-    return [r * columns + c for r in range(row, row + high) for c in range(column, column + wide)]
-
-
-def fold_cost(rows, columns, walls, number):
-    """What the fold costs whose cells are the number's bits."""
-    needed = 0
-    for cell in range(rows * columns):
-        if number >> cell & 1:
-            row, column = divmod(cell, columns)
-            needed += "above" not in walls if row == 0 else not number >> cell - columns & 1
-            needed += "below" not in walls if row == rows - 1 else not number >> cell + columns & 1
-            needed += "left" not in walls if column == 0 else not number >> cell - 1 & 1
-            needed += "right" not in walls if column == columns - 1 else not number >> cell + 1 & 1
-    return needed
 
 
 def cost_at(rows, columns, walls, row, column, high, wide):
